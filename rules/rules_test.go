@@ -70,6 +70,9 @@ func TestFaults(t *testing.T) {
 		"package x\n\nfunc f() { println(1) }\n",
 		"package x\n\nfunc  f() {}\n",
 		"package x\n\nvar n int\n",
+		"package x\n\nvar x = 1.5\n",
+		"package x\n\nvar x = 2i\n",
+		"package x\n\nvar x = \"text\"\n",
 		"package x\n\nvar m = map[int]int{}\n",
 		"package x\n\nvar f = func() {}\n",
 		"package x\n\nvar p = &struct{}{}\n",
@@ -153,6 +156,9 @@ func mayStand(v *ast.ValueSpec) bool {
 				return false
 			}
 		case *ast.BasicLit:
+			if x.Kind != token.INT && x.Kind != token.CHAR {
+				return false
+			}
 		default:
 			return false
 		}
